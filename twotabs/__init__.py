@@ -1,0 +1,1 @@
+"""Twotabs: one draft in several windows, nothing typed lost."""
