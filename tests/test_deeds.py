@@ -129,7 +129,8 @@ class MoveTest(DeedCase):
 
     def test_the_mark_itself_is_left_aside(self):
         # Behind A stands B, of rank -4, and then C, of rank 9: the new rank is one less than that of C.
-        sheet = Sheet([(A, (1, AT_A, "one")), (B, (2, AT_A + ((-4, 1, 2),), "two")), (C, (3, AT_A + ((9, 1, 3),), "c"))])
+        sheet = Sheet([(A, (1, AT_A, "one")), (B, (2, AT_A + ((-4, 1, 2),), "two")),
+                       (C, (3, AT_A + ((9, 1, 3),), "three"))])
         self.assertEqual(done(sheet, ("move", B, A), 20, 3, 7), [(B, (20, AT_A + ((8, 3, 7),), "two"))])
 
     def test_no_piece(self):

@@ -57,3 +57,8 @@ class Sheet:
             else:
                 versions[mark] = version
         return Sheet(list(versions.items()))
+
+
+def marks_of(one, other):
+    """Tell the marks of which one of two sheets has a version, rising."""
+    return sorted({mark for mark, version in one.pairs() + other.pairs()})

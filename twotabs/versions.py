@@ -12,6 +12,11 @@ def out_version(beat):
     return (beat, (), "")
 
 
+def at_beat(version, beat):
+    """Make the version with the same place and words at another beat."""
+    return (beat, version[1], version[2])
+
+
 def is_in(version):
     """Tell whether the piece is in."""
     return version[1] != ()
