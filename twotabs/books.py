@@ -66,6 +66,10 @@ class Book:
         """Tell the last save of a window's number, or None."""
         return max([save for save, (sheet, told) in enumerate(self.saves) if told[0] == window], default=None)
 
+    def greatest_window(self):
+        """Tell the greatest window's number that a save tells."""
+        return max([told[0] for sheet, told in self.saves])
+
     def back_pairs(self, save, beat):
         """Tell the pairs (mark, version) that bring the newest save back to an older one at a beat."""
         old = self.sheet(save)

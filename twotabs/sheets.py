@@ -43,10 +43,14 @@ class Sheet:
     def gap(self, behind, aside):
         """Tell the places (low, high) round the gap behind a piece, or at the head, some marks left aside."""
         low = () if behind is None else self.piece(behind)[1]
+        return (low, self.next_place(low, aside))
+
+    def next_place(self, low, aside):
+        """Tell the least place behind low of the pieces that are in, some marks left aside, or None."""
         left = set(aside)
         # The place () of a piece that is out is behind none, so such pieces are passed over.
         places = [version[1] for mark, version in self.versions.items() if mark not in left and version[1] > low]
-        return (low, min(places, default=None))
+        return min(places, default=None)
 
     def given(self, pairs):
         """Make the sheet where these marks have these versions, or with None are not there."""
