@@ -3,6 +3,7 @@
 import unittest
 
 from twotabs import errors
+from twotabs.papers import house_of, papers
 from twotabs.sheets import Sheet
 from twotabs.windows import Window
 
@@ -76,7 +77,7 @@ def random_act(chance, house, names):
     """A deed for one of these windows, or for the whole house: a tuple of its method's name and what is handed in."""
     name = chance.choice(names)
     kind = chance.randrange(24)
-    if name not in [each for each, number, is_open in house.windows() if is_open]:
+    if name not in names_open(house):
         return ("opens", name)
     if kind < 13:
         return ("does", name, random_deed(chance, [mark for mark, words in house.lines(name)]))
@@ -122,3 +123,21 @@ def draft_of(house, name):
         elif note[1] > start:
             getattr(window, note[0])()
     return window.draft()
+
+
+def names_open(house):
+    """The names of the open windows."""
+    return [name for name, number, is_open in house.windows() if is_open]
+
+
+def read_back(house):
+    """The house read from its papers, with the same windows open."""
+    anew = house_of(*papers(house))
+    for name in names_open(house):
+        anew.opens(name)
+    return anew
+
+
+def perhaps_read_back(chance, house, reads):
+    """The house itself, or, where reads is true, now and then the one read from its papers."""
+    return read_back(house) if reads and chance.randrange(8) == 0 else house

@@ -1,5 +1,6 @@
 """Promises [26], [27] and [28], and [2] as it touches them: the house, its deeds, what it tells, and its records."""
 
+import copy
 import random
 import unittest
 
@@ -599,7 +600,7 @@ class OwnListsTest(RefusalCase):
 
     def test_lists_told(self):
         house = self.house
-        before = house_told(house)
+        before = copy.deepcopy(house_told(house))
         asks = [(house.lines, "b"), (house.unsaved, "b"), (house.would, "b"), (house.news, "b"), (house.windows,),
                 (house.read, 1), (house.since, 1), (house.trail, A), (house.all_told,), (house.still,),
                 (house.records,), (house.slips,)]
@@ -614,7 +615,7 @@ class OwnListsTest(RefusalCase):
 
     def test_lists_within_lists(self):
         house = self.house
-        before = house_told(house)
+        before = copy.deepcopy(house_told(house))
         for head, pieces, asides in house.records():
             pieces.append(None)
             asides.append(None)
@@ -629,7 +630,7 @@ class OwnListsTest(RefusalCase):
         house.does("b", ("join", A)).clear()
         house.undo("b").append(None)
         house.again("b").clear()
-        before = house_told(house)
+        before = copy.deepcopy(house_told(house))
         self.assertEqual(house.unsaved("b"), [A, C])
         save, numbers = house.save("b")
         self.assertNotEqual(numbers, [])
@@ -653,7 +654,7 @@ class OwnListsTest(RefusalCase):
     def test_two_houses_share_nothing(self):
         other = House()
         self.assertEqual(house_told(other), house_told(House()))
-        before = house_told(self.house)
+        before = copy.deepcopy(house_told(self.house))
         other.opens("b")
         other.does("b", ("put", None, "x"))
         other.save("b")

@@ -1,11 +1,19 @@
-"""The promises over the whole, [3], [4], [5], [6] and [8], of houses of several windows with many mixed deeds."""
+"""The promises over the whole, [3] to [8], of houses of several windows with many mixed deeds.
 
+Each is asked of houses as they are, and of such that are read back from their papers at any places.
+"""
+
+import copy
 import itertools
 import random
 import unittest
 
-from helper import RefusalCase, act, book_told, draft_of, random_act, random_deed
+from helper import (
+    RefusalCase, act, book_told, draft_of, house_told, names_open, perhaps_read_back, random_act, random_deed, read_back,
+    window_told,
+)
 from twotabs.house import House
+from twotabs.papers import house_of, papers
 from twotabs.versions import alike
 
 NAMES = ("a", "b", "c")
@@ -19,10 +27,19 @@ def sheets_of(house):
     return sheets
 
 
-def house_by_chance(seed, turns, names=NAMES):
-    """A house of so many deeds, and the deeds that were not refused."""
+def seeds(many):
+    """So many seeds, each without and with reading back."""
+    return itertools.product(range(many), (False, True))
+
+
+def house_by_chance(seed, turns, names=NAMES, reads=False):
+    """A house of so many deeds, and the deeds that were not refused; reading back is the deed cut."""
     chance, house, deeds = random.Random(seed), House(), []
     for turn in range(turns):
+        anew = perhaps_read_back(chance, house, reads)
+        if anew is not house:
+            house = anew
+            deeds.append(("cut",))
         deed = random_act(chance, house, names)
         beat = house.beat()
         act(house, deed)
@@ -31,27 +48,37 @@ def house_by_chance(seed, turns, names=NAMES):
     return house, deeds
 
 
-def done_anew(deeds):
-    house = House()
+def told_anew(deeds):
+    """The house of these deeds, and what each of them tells."""
+    house, told = House(), []
     for deed in deeds:
-        act(house, deed)
-    return house
+        if deed == ("cut",):
+            house = read_back(house)
+            told.append(None)
+        else:
+            told.append(act(house, deed))
+    return house, told
+
+
+def done_anew(deeds):
+    return told_anew(deeds)[0]
 
 
 class NothingLostTest(RefusalCase):
     """[3]: nothing typed is lost."""
 
     def test_pieces_stay_in_the_book(self):
-        for seed in range(30):
-            house, deeds = house_by_chance(seed, 100)
+        for seed, reads in seeds(20):
+            house, deeds = house_by_chance(seed, 100, reads=reads)
             for one, other in itertools.pairwise(sheets_of(house)):
                 self.assertLessEqual(set(one), set(other))
 
     def test_at_every_save(self):
         clashes = 0
-        for seed in range(60):
+        for seed, reads in seeds(40):
             chance, house = random.Random(seed), House()
             for turn in range(100):
+                house = perhaps_read_back(chance, house, reads)
                 deed = random_act(chance, house, NAMES)
                 if deed[0] == "save":
                     clashes += self.check_save(house, deed[1])
@@ -108,8 +135,8 @@ class MeantLastTest(RefusalCase):
     """[4]: what was meant last stands."""
 
     def test_the_latest_version_in_each_save(self):
-        for seed in range(60):
-            house, deeds = house_by_chance(seed, 100)
+        for seed, reads in seeds(40):
+            house, deeds = house_by_chance(seed, 100, reads=reads)
             latest = {}
             for save, sheet in enumerate(sheets_of(house)):
                 aside = [(clash[1], clash[3]) for clash in house.all_told() if clash[4] == save]
@@ -117,12 +144,11 @@ class MeantLastTest(RefusalCase):
                     latest[mark] = max(latest.get(mark, version), version)
                 self.assertEqual(sheet, latest)
 
-    def ready(self, seed):
+    def ready(self, seed, reads):
         """Deeds that leave all windows on the newest save, each with deeds of its own behind it."""
         chance = random.Random(seed)
-        house, deeds = house_by_chance(seed, 40)
-        open_now = [name for name, number, is_open in house.windows() if is_open]
-        deeds += [("opens", name) for name in NAMES if name not in open_now]
+        house, deeds = house_by_chance(seed, 40, reads=reads)
+        deeds += [("opens", name) for name in NAMES if name not in names_open(house)]
         deeds += [("save", name) for name in NAMES] + [("reload", name) for name in NAMES]
         house = done_anew(deeds)
         self.assertEqual([house.base(name) for name in NAMES], [house.newest()] * 3)
@@ -135,12 +161,13 @@ class MeantLastTest(RefusalCase):
 
     def test_in_whatever_order_they_save(self):
         clashes = 0
-        for seed in range(40):
-            house, deeds = self.ready(seed)
+        for seed, reads in seeds(25):
+            house, deeds = self.ready(seed, reads)
             likes = self.marks_touched_alike(house)
             ends, asides = [], []
             for order in itertools.permutations(NAMES):
-                end = done_anew(deeds + [("save", name) for name in order])
+                between = [("cut",)] if reads else []
+                end = done_anew(deeds + [deed for name in order for deed in between + [("save", name)]])
                 told = [clash for clash in end.all_told() if clash[4] > house.newest()]
                 clashes += len(told)
                 ends.append(sheets_of(end)[-1])
@@ -174,7 +201,7 @@ class ExchangedTest(RefusalCase):
 
     def may_change_places(self, one, other, touched):
         """What [5] asks of two neighbours."""
-        if one[1] == other[1] or not {one[0], other[0]} <= {"does", "undo", "again", "save"}:
+        if not {one[0], other[0]} <= {"does", "undo", "again", "save"} or one[1] == other[1]:
             return False
         if one[0] == other[0] == "save":
             return False
@@ -182,9 +209,9 @@ class ExchangedTest(RefusalCase):
 
     def test_by_chance(self):
         many = {"does": 0, "undo": 0, "save": 0}
-        for seed in range(60):
-            house, deeds = house_by_chance(seed, 80)
-            shape, told = self.shape(house), [act(anew, deed) for anew in (House(),) for deed in deeds]
+        for seed, reads in seeds(30):
+            house, deeds = house_by_chance(seed, 80, reads=reads)
+            shape, told = self.shape(house), told_anew(deeds)[1]
             for at in range(len(deeds) - 1):
                 one, other = deeds[at:at + 2]
                 if self.may_change_places(one, other, told[at:at + 2]):
@@ -316,10 +343,11 @@ class PlainListTest(RefusalCase):
         self.assertEqual(house.all_told(), [])
 
     def test_alone(self):
-        for seed in range(50):
+        for seed, reads in seeds(30):
             chance, house, plain, saves = random.Random(seed), House(), PlainList(), [[]]
             house.opens("a")
             for turn in range(120):
+                house = perhaps_read_back(chance, house, reads)
                 kind = chance.randrange(20)
                 if kind == 0 and house.unsaved("a") == []:
                     self.go_back(chance, house, plain, saves)
@@ -341,7 +369,7 @@ class PlainListTest(RefusalCase):
             self.check_saves(house, saves)
 
     def test_in_turns(self):
-        for seed in range(50):
+        for seed, reads in seeds(30):
             chance, house, plain, saves = random.Random(seed), House(), PlainList(), [[]]
             for name in NAMES:
                 house.opens(name)
@@ -350,6 +378,7 @@ class PlainListTest(RefusalCase):
                 house.reload(name)
                 self.assertEqual(self.words(house.lines(name)), plain.words)
                 for deed in range(chance.randrange(8)):
+                    house = perhaps_read_back(chance, house, reads)
                     self.deed_in(chance, house, name, plain)
                 self.assertEqual(house.save(name), (len(saves), []))
                 plain.saved()
@@ -363,14 +392,15 @@ class TogetherTest(RefusalCase):
     """[6]: pieces put in one behind the other stay together."""
 
     def test_by_chance(self):
-        for seed in range(80):
+        for seed, reads in seeds(40):
             chance = random.Random(seed)
-            house, deeds = house_by_chance(seed, 30, ("a", "b"))
+            house, deeds = house_by_chance(seed, 30, ("a", "b"), reads)
             for name in ("d", "e", "f"):
                 house.opens(name)
             behind = chance.choice([None] + [mark for mark, words in house.lines("d")])
             chain = []
             for turn in range(6):
+                house = perhaps_read_back(chance, house, reads)
                 chain += house.does("d", ("put", chain[-1] if chain else behind, f"piece {turn}"))
                 # The two others have not seen any of them, whether they work ahead or behind.
                 for name in ("e", "f"):
@@ -404,22 +434,215 @@ class TogetherTest(RefusalCase):
         self.assertEqual(words, ["head"] + [f"{name} {turn}" for name in NAMES for turn in range(5)])
 
 
+def closed(house):
+    """The house once more, with all its windows closed."""
+    house = copy.deepcopy(house)
+    for name in names_open(house):
+        house.closes(name)
+    return house
+
+
+def window_whole(house, name):
+    """All that a window has: what is told of it, and what undoing and doing again come to."""
+    house = copy.deepcopy(house)
+    if name not in names_open(house):
+        house.opens(name)
+    told = [window_told(house, name)]
+    for kind in ("undo", "again"):
+        while (marks := act(house, (kind, name))) is not None:
+            told.append((kind, marks, house.lines(name), house.unsaved(name)))
+    return told
+
+
+def own_part(whole):
+    """What of that hangs on the window alone, not on later saves."""
+    return [whole[0][:3]] + whole[1:]
+
+
+class PapersTest(RefusalCase):
+    """[7]: a house read back from its papers, whole or cut off."""
+
+    def test_it_tells_the_same(self):
+        for seed in range(25):
+            house, deeds = house_by_chance(seed, 90)
+            anew = house_of(*papers(house))
+            self.assertEqual(house_told(anew), house_told(closed(house)))
+            for name, number, is_open in house.windows():
+                self.assertEqual(window_whole(anew, name), window_whole(house, name))
+
+    def test_all_deeds_go_on_as_if_nothing_had_been(self):
+        for seed in range(25):
+            chance, house = random.Random(seed), House()
+            anew = House()
+            for turn in range(90):
+                anew = perhaps_read_back(chance, anew, True)
+                deed = random_act(chance, house, NAMES)
+                self.assertEqual(act(anew, deed), act(house, deed))
+                self.assertEqual(house_told(anew), house_told(house))
+
+    def test_the_last_deed_cut_off_at_any_sign(self):
+        kinds = set()
+        for seed in range(6):
+            chance, house = random.Random(seed), House()
+            for turn in range(110):
+                before, (book, slips) = house_told(closed(house)), papers(house)
+                deed = random_act(chance, house, NAMES)
+                beat = house.beat()
+                act(house, deed)
+                if house.beat() > beat:
+                    kinds.add(deed[0])
+                    self.check_cut(papers(house), book, dict(slips), before)
+        self.assertEqual(kinds, {"opens", "does", "undo", "again", "reload", "save", "back", "settle"})
+
+    def check_cut(self, written, book, slips, before):
+        """Just one paper has grown; cut off within that, the house is as it was."""
+        new_book, new_slips = written
+        grown = [name for name, text in new_slips if text != slips.get(name, "")]
+        self.assertEqual(len(grown) + (new_book != book), 1)
+        self.assertTrue(new_book.startswith(book))
+        for at in range(len(book), len(new_book)):
+            self.assertEqual(house_told(house_of(new_book[:at], new_slips)), before)
+        for name, text in new_slips:
+            self.assertTrue(text.startswith(slips.get(name, "")))
+            for at in range(len(slips.get(name, "")), len(text)):
+                cut = [(each, text[:at] if each == name else slip) for each, slip in new_slips]
+                self.assertEqual(house_told(house_of(new_book, cut)), before)
+
+    def test_a_slip_cut_off_at_any_sign_or_lost(self):
+        for seed in range(8):
+            house, states = self.followed(seed)
+            book, slips = papers(house)
+            wholes = {name: window_whole(house, name) for name, text in slips}
+            for name, text in slips:
+                others = [(each, slip) for each, slip in slips if each != name]
+                for at in list(range(len(text) + 1)) + [None]:
+                    cut = others if at is None else others + [(name, text[:at])]
+                    anew = house_of(book, cut)
+                    self.assertEqual(book_told(anew), book_told(house))
+                    for each, slip in others:
+                        self.assertEqual(window_whole(anew, each), wholes[each])
+                    rows = text[:at or 0].count("\n")
+                    self.check_own(anew, name, rows, dict(house.slips())[name], states[name])
+
+    def followed(self, seed):
+        """A house by chance, and of each window how it was behind each of its deeds: lists of pairs (beat, whole)."""
+        chance, house, states = random.Random(seed), House(), {name: [] for name in NAMES}
+        for turn in range(50):
+            deed = random_act(chance, house, NAMES)
+            beat = house.beat()
+            act(house, deed)
+            if house.beat() > beat and deed[1] in NAMES:
+                saves = deed[0] == "save"
+                states[deed[1]].append((house.beat(), saves, own_part(window_whole(house, deed[1]))))
+        return house, states
+
+    def check_own(self, anew, name, rows, notes, states):
+        """The window is as it was behind its last whole row, or its last save, if that was later."""
+        if rows == 0:
+            self.assertNotIn(name, [each for each, number, is_open in anew.windows()])
+            return
+        last_row = notes[rows - 1][1]
+        last_save = max([beat for beat, saves, whole in states if saves], default=0)
+        expected = [whole for beat, saves, whole in states if beat == max(last_row, last_save)]
+        self.assertEqual([own_part(window_whole(anew, name))], expected)
+
+    def test_a_window_opened_anew_behind_a_lost_slip(self):
+        for seed in range(30):
+            chance = random.Random(seed)
+            house, deeds = house_by_chance(seed, 50)
+            book, slips = papers(house)
+            lost = chance.choice(slips)[0]
+            house = house_of(book, [(name, text) for name, text in slips if name != lost])
+            numbers = [number for name, number, is_open in house.windows()]
+            numbers += [head[2] for head, pieces, asides in house.records() if head[0] == "save"]
+            self.assertEqual(house.opens(lost), max(numbers, default=0) + 1)
+            self.assertEqual((house.lines(lost), house.base(lost)), (house.read(house.newest()), house.newest()))
+            seen = set(sheets_of(house)[-1])
+            for turn in range(50):
+                deed = random_act(chance, house, NAMES)
+                marks = act(house, deed)
+                if deed[0] == "does" and marks is not None and deed[2][0] == "put":
+                    # No mark comes a second time, also not one of the window that was lost.
+                    self.assertFalse(seen & set(marks))
+                    seen |= set(marks)
+            for one, other in itertools.pairwise(sheets_of(house)):
+                self.assertTrue(all(one[mark][0] <= other[mark][0] for mark in one))
+            self.assertEqual(house_told(house_of(*papers(house))), house_told(closed(house)))
+
+    def test_a_slip_cut_off_and_gone_on_with(self):
+        for seed in range(30):
+            chance = random.Random(seed)
+            house, deeds = house_by_chance(seed, 50)
+            book, slips = papers(house)
+            cut = [(name, text[:chance.randrange(len(text) + 1)]) for name, text in slips]
+            house = house_of(book, cut)
+            for turn in range(50):
+                house = perhaps_read_back(chance, house, True)
+                act(house, random_act(chance, house, NAMES))
+            asides = [(clash[1], clash[3][0]) for clash in house.all_told()]
+            self.assertEqual(len(asides), len(set(asides)))
+            for one, other in itertools.pairwise(sheets_of(house)):
+                self.assertTrue(all(one[mark][0] <= other[mark][0] for mark in one))
+
+
+class ApartTest(RefusalCase):
+    """[2]: houses share nothing, and lists that are told are the asker's own."""
+
+    def test_two_houses_that_take_turns(self):
+        for seed, reads in seeds(10):
+            chance, houses = random.Random(seed), [House(), House()]
+            deeds = [[], []]
+            for turn in range(100):
+                at = chance.randrange(2)
+                anew = perhaps_read_back(chance, houses[at], reads)
+                deeds[at] += [("cut",)] if anew is not houses[at] else []
+                houses[at] = anew
+                deeds[at].append(random_act(chance, anew, NAMES))
+                act(anew, deeds[at][-1])
+            self.assertEqual([house_told(done_anew(each)) for each in deeds], [house_told(house) for house in houses])
+
+    def test_every_list_changed_behind(self):
+        for seed, reads in seeds(10):
+            chance, house, deeds = random.Random(seed), House(), []
+            for turn in range(80):
+                anew = perhaps_read_back(chance, house, reads)
+                deeds += [("cut",)] if anew is not house else []
+                house = anew
+                deeds.append(random_act(chance, house, NAMES))
+                spoil(act(house, deeds[-1]))
+                spoil(house_told(house))
+                spoil(papers(house))
+            self.assertEqual(house_told(done_anew(deeds)), house_told(house))
+
+
+def spoil(thing):
+    """Change every list in a thing, at any depth."""
+    if isinstance(thing, (list, tuple)):
+        for each in thing:
+            spoil(each)
+    if isinstance(thing, list):
+        thing.reverse()
+        thing.append("spoiled")
+
+
 class WholeSavesTest(RefusalCase):
     """[8]: who has no window reads only whole saves."""
 
     def test_between_saves_and_for_ever(self):
-        for seed in range(30):
-            chance, house, reads = random.Random(seed), House(), [([], [])]
+        for seed, reads in seeds(20):
+            chance, house, read = random.Random(seed), House(), [([], [])]
             for turn in range(90):
-                deed, before = random_act(chance, house, NAMES), book_told(house)
-                saves = house.newest()
+                before, saves = book_told(house), house.newest()
+                house = perhaps_read_back(chance, house, reads)
+                self.assertEqual(book_told(house), before)
+                deed = random_act(chance, house, NAMES)
                 act(house, deed)
                 if deed[0] not in ("save", "settle", "back"):
                     self.assertEqual(book_told(house), before)
                 for save in range(saves + 1, house.newest() + 1):
-                    reads.append((house.read(save), house.since(save)))
+                    read.append((house.read(save), house.since(save)))
                 self.assertLessEqual(house.newest(), saves + 1)
-                self.assertEqual([(house.read(save), house.since(save)) for save in range(len(reads))], reads)
+                self.assertEqual([(house.read(save), house.since(save)) for save in range(len(read))], read)
 
 
 if __name__ == "__main__":

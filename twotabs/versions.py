@@ -2,7 +2,7 @@
 
 from twotabs.errors import NoText
 from twotabs.places import place_text, read_place
-from twotabs.words import is_words, number_text, read_number
+from twotabs.words import is_words, number_text, read_from
 
 OUT = "-"
 
@@ -47,7 +47,7 @@ def version_text(version):
 def read_version(text):
     """Read a version."""
     beat_text, blank, rest = text.partition(" ")
-    beat = read_beat(beat_text)
+    beat = read_from(1, beat_text)
     if rest == OUT:
         return out_version(beat)
     where, blank, words = rest.partition(" ")
@@ -56,11 +56,3 @@ def read_version(text):
     if blank == "" or not is_words(words):
         raise NoText("behind the place stand a blank and words")
     return (beat, place, words)
-
-
-def read_beat(text):
-    """Read a beat."""
-    beat = read_number(text)
-    if beat < 1:
-        raise NoText("a beat is a number from 1 on")
-    return beat

@@ -43,6 +43,14 @@ def read_number(text):
     return int(text)
 
 
+def read_from(least, text):
+    """Read a number from the least one on."""
+    number = read_number(text)
+    if number < least:
+        raise NoText("the number is too small")
+    return number
+
+
 def mark_text(mark):
     """Write a mark."""
     return dotted_text(mark)
