@@ -1,8 +1,11 @@
 """What the tests share: how a refusal is asked for, all that a house tells, and houses of many mixed deeds."""
 
+import copy
+import random
 import unittest
 
 from twotabs import errors
+from twotabs.house import House
 from twotabs.papers import house_of, papers
 from twotabs.sheets import Sheet
 from twotabs.windows import Window
@@ -141,3 +144,19 @@ def read_back(house):
 def perhaps_read_back(chance, house, reads):
     """The house itself, or, where reads is true, now and then the one read from its papers."""
     return read_back(house) if reads and chance.randrange(8) == 0 else house
+
+
+def by_chance(seed, turns, names):
+    """A house of so many mixed deeds in windows of these names."""
+    chance, house = random.Random(seed), House()
+    for turn in range(turns):
+        act(house, random_act(chance, house, names))
+    return house
+
+
+def closed(house):
+    """The house once more, with all its windows closed."""
+    house = copy.deepcopy(house)
+    for name in names_open(house):
+        house.closes(name)
+    return house

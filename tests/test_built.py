@@ -4,7 +4,7 @@ import copy
 import random
 import unittest
 
-from helper import RefusalCase, act, book_told, house_told, random_act, window_told
+from helper import RefusalCase, act, book_told, by_chance, house_told, random_act, window_told
 from twotabs.built import built
 from twotabs.house import House
 
@@ -42,13 +42,6 @@ def undone_and_done(house, name):
     return told
 
 
-def by_chance(seed, turns):
-    chance, house = random.Random(seed), House()
-    for turn in range(turns):
-        act(house, random_act(chance, house, NAMES))
-    return house
-
-
 class AgainTest(RefusalCase):
 
     def test_no_records(self):
@@ -60,7 +53,7 @@ class AgainTest(RefusalCase):
     def test_all_that_it_tells(self):
         clashes = 0
         for seed in range(60):
-            house = by_chance(seed, 150)
+            house = by_chance(seed, 150, NAMES)
             clashes += len(house.all_told())
             anew = built(house.records(), house.slips())
             self.assertEqual([is_open for name, number, is_open in anew.windows()], [False] * len(house.windows()))
@@ -69,7 +62,7 @@ class AgainTest(RefusalCase):
 
     def test_slips_in_any_order(self):
         for seed in range(30):
-            house, chance = by_chance(seed, 60), random.Random(seed)
+            house, chance = by_chance(seed, 60, NAMES), random.Random(seed)
             slips = house.slips()
             told = all_told(house)
             for turn in range(4):
@@ -79,7 +72,7 @@ class AgainTest(RefusalCase):
     def test_undoing_and_doing_again(self):
         steps = 0
         for seed in range(60):
-            house = opened(by_chance(seed, 90))
+            house = opened(by_chance(seed, 90, NAMES))
             anew = opened(built(house.records(), house.slips()))
             for name, number, is_open in house.windows():
                 told = undone_and_done(house, name)
@@ -89,7 +82,7 @@ class AgainTest(RefusalCase):
 
     def test_it_goes_on_as_the_first_one_does(self):
         for seed in range(40):
-            house, chance = opened(by_chance(seed, 60)), random.Random(seed + 1000)
+            house, chance = opened(by_chance(seed, 60, NAMES)), random.Random(seed + 1000)
             anew = opened(built(house.records(), house.slips()))
             for turn in range(60):
                 deed = random_act(chance, house, NAMES + ("e",))
@@ -263,7 +256,8 @@ class NoBuiltTest(RefusalCase):
     def test_beats_of_a_slip(self):
         self.assert_no_built(
             ([], [("a", [("begin", 0, 1, 0)])]), ([], [("a", [("begin", -3, 1, 0)])]),
-            ([], [("a", [("begin", 3, 1, 0), ("reload", 3, 0)])]), ([], [("a", [("begin", 3, 1, 0), ("reload", 2, 0)])]),
+            ([], [("a", [("begin", 3, 1, 0), ("reload", 3, 0)])]),
+            ([], [("a", [("begin", 3, 1, 0), ("reload", 2, 0)])]),
             more(("again", 16)), more(("again", 10)), changed(1, ("reload", 1, 0), False))
 
     def test_a_beat_twice_in_all(self):
@@ -343,8 +337,10 @@ class NoBuiltTest(RefusalCase):
 
     def test_begin(self):
         self.assert_no_built(
-            ([], [("a", [("undo", 1)])]), ([], [("a", [("reload", 1, 0)])]), ([], [("a", [("deed", 1, ("put", None, ""))])]),
-            ([], [("a", [("reload", 1, 0), ("begin", 2, 1, 0)])]), ([], [("a", [("begin", 1, 1, 0), ("begin", 2, 1, 0)])]),
+            ([], [("a", [("undo", 1)])]), ([], [("a", [("reload", 1, 0)])]),
+            ([], [("a", [("deed", 1, ("put", None, ""))])]),
+            ([], [("a", [("reload", 1, 0), ("begin", 2, 1, 0)])]),
+            ([], [("a", [("begin", 1, 1, 0), ("begin", 2, 1, 0)])]),
             ([], [("a", [("begin", 1, 1, 0), ("reload", 2, 0), ("begin", 3, 2, 0)])]), more(("begin", 20, 1, 0)))
         # Also ahead of the window's last save.
         self.assert_no_built(changed(1, ("begin", 3, 1, 0), False))
@@ -361,7 +357,8 @@ class NoBuiltTest(RefusalCase):
             ("write", A, "\n"), ("part", A, 99), ("part", A, -1), ("join", B), ("carry", B, A, None),
             ("carry", A, B, B))])
         self.assert_no_built(
-            more(("undo", 20), ("undo", 21)), more(("again", 20), ("again", 21)), more(("reload", 20, 4), ("again", 21)),
+            more(("undo", 20), ("undo", 21)), more(("again", 20), ("again", 21)),
+            more(("reload", 20, 4), ("again", 21)),
             ([], [("a", [("begin", 1, 1, 0), ("undo", 2)])]), ([], [("a", [("begin", 1, 1, 0), ("again", 2)])]))
 
     def test_reloads_that_cannot_be_done(self):
@@ -369,14 +366,15 @@ class NoBuiltTest(RefusalCase):
         crossed = (("deed", 20, ("write", A, "mine")), ("reload", 21, 4))
         self.assert_no_built(more(*crossed))
         built(*more(crossed[0], ("undo", 21), ("reload", 22, 4)))
-        self.assert_no_built(more(("reload", 20, 1)), more(("reload", 20, 0)), more(("reload", 20, 4), ("reload", 21, 3)))
+        self.assert_no_built(more(("reload", 20, 1)), more(("reload", 20, 0)),
+                             more(("reload", 20, 4), ("reload", 21, 3)))
         built(*more(("reload", 20, 2)))
         built(*more(("reload", 20, 3), ("reload", 21, 4)))
 
     def test_records_of_houses_with_one_beat_changed(self):
         # Two records of a slip or the book that change places break the rising of beats.
         for seed in range(20):
-            house, chance = by_chance(seed, 40), random.Random(seed)
+            house, chance = by_chance(seed, 40, NAMES), random.Random(seed)
             records, slips = house.records(), house.slips()
             if len(records) > 1:
                 at = chance.randrange(len(records) - 1)
@@ -408,7 +406,7 @@ class OwnListsTest(RefusalCase):
         self.assertEqual(house.undo("a"), [B])
 
     def test_lists_of_another_house(self):
-        house = by_chance(3, 60)
+        house = by_chance(3, 60, NAMES)
         anew = opened(built(house.records(), house.slips()))
         before = copy.deepcopy(house_told(house))
         for turn in range(5):

@@ -72,8 +72,10 @@ class ToldTest(RefusalCase):
 
     def test_kept_as_handed_in(self):
         # Nothing is asked of the versions and the save: the later one may be aside, they may be the same.
-        odd = ((A, (1, P, "a"), (9, Q, "b"), 0), (A, (1, P, "a"), (1, P, "a"), 7), ((0, 3), (2, (), ""), (2, (), ""), 5),
-               (C, (10 ** 40, P, " in "), (3, R, "out"), 10 ** 40), (C, (3, ((-5, 0, 1),) * 2000, "x" * 5000), (1, P, ""), 1))
+        odd = ((A, (1, P, "a"), (9, Q, "b"), 0), (A, (1, P, "a"), (1, P, "a"), 7),
+               ((0, 3), (2, (), ""), (2, (), ""), 5),
+               (C, (10 ** 40, P, " in "), (3, R, "out"), 10 ** 40),
+               (C, (3, ((-5, 0, 1),) * 2000, "x" * 5000), (1, P, ""), 1))
         clashes = Clashes()
         for number, told in enumerate(odd, 1):
             self.assertEqual(clashes.tell(*told), number)

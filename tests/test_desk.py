@@ -17,19 +17,16 @@ NO_ROWS = (
     "part a x 1", "join a", "join a ", "join a x", "join a 1 2", "join a 10000", "carry a 1 2", "carry a 1 2 ",
     "carry a 1 2 x", "carry a 1 x 2", "carry a x 1 2", "carry a 1 2 3 4", "carry a 1 2 03", "carry a 1 2 -1",
     "carry a 1 2 10000", "undo", "undo ", "undo a b", "undo a ", "again", "again ", "again a b", "reload", "reload ",
-    "reload a 1", "save", "save ", "save a 1", "show", "show ", "show a b", "unsaved", "unsaved ", "unsaved a b", "read",
+    "reload a 1", "save", "save ", "save a 1", "show", "show ", "show a b", "unsaved", "unsaved ", "unsaved a b",
+    "read",
     "read ", "read x", "read -1", "read 01", "read 12345", "read 1 2", "read 1 ", "read\t1", "clashes ", "clashes 1",
-    "clash", "settle", "settle 1", "settle 1 ", "settle x stay", "settle 01 stay", "settle -1 stay", "settle 12345 stay",
-    "settle 1 stay ", "settle 1  stay", "settle 1 stay turn", "settle stay 1", "settle  stay", "back", "back ", "back x",
+    "clash", "settle", "settle 1", "settle 1 ", "settle x stay", "settle 01 stay", "settle -1 stay",
+    "settle 12345 stay",
+    "settle 1 stay ", "settle 1  stay", "settle 1 stay turn", "settle stay 1", "settle  stay", "back", "back ",
+    "back x",
     "back -1", "back 00", "back 12345", "back 1 2", "back 1 ", "cut ", "cut a", "Cut", "cutting", "cut\n", "clashes\n",
     "ok", "begin 1 1 0", "\n", "\t", "news a", "would a",
 )
-
-
-def asked(rows, desk=None):
-    """The answers to rows."""
-    desk = desk or Desk()
-    return [desk.say(row) for row in rows]
 
 
 def desk_with(*rows):
@@ -67,7 +64,8 @@ class OpenTest(DeskCase):
         self.assert_answers(desk, ("open a", "ok"))
 
     def test_close(self):
-        self.assert_answers(Desk(), ("close a", "no window"), ("open a", "ok"), ("close a", "ok"), ("close a", "no window"),
+        self.assert_answers(Desk(), ("close a", "no window"), ("open a", "ok"), ("close a", "ok"),
+                            ("close a", "no window"),
                             ("close A", "no window"), ("close a\n", "no window"))
 
 
@@ -109,14 +107,16 @@ class DeedTest(DeskCase):
     def test_take(self):
         self.assertEqual(self.lines_behind("take a 1"), ["two", "three"])
         self.assertEqual(self.lines_behind("take a 3"), ["one", "two"])
-        self.assert_answers(desk_with(*THREE), ("take a 0", "no line"), ("take a 4", "no line"), ("take a 9999", "no line"),
+        self.assert_answers(desk_with(*THREE), ("take a 0", "no line"), ("take a 4", "no line"),
+                            ("take a 9999", "no line"),
                             ("unsaved a", "3"), ("show a", "3\none\ntwo\nthree"))
 
     def test_move(self):
         self.assertEqual(self.lines_behind("move a 1 3"), ["two", "three", "one"])
         self.assertEqual(self.lines_behind("move a 3 0"), ["three", "one", "two"])
         self.assertEqual(self.lines_behind("move a 2 1"), ["one", "two", "three"])
-        self.assert_answers(desk_with(*THREE), ("move a 0 1", "no line"), ("move a 4 1", "no line"), ("move a 1 4", "no line"),
+        self.assert_answers(desk_with(*THREE), ("move a 0 1", "no line"), ("move a 4 1", "no line"),
+                            ("move a 1 4", "no line"),
                             ("move a 1 1", "no line"), ("move a 0 0", "no line"), ("move a 4 4", "no line"),
                             ("move a 5 0", "no line"))
 
@@ -124,20 +124,23 @@ class DeedTest(DeskCase):
         self.assertEqual(self.lines_behind("write a 2 x "), ["one", "x ", "three"])
         self.assertEqual(self.lines_behind("write a 2 "), ["one", "", "three"])
         self.assert_answers(desk_with(*THREE), ("write a 0 x", "no line"), ("write a 4 x", "no line"),
-                            ("write a 1 a\tb", "no words"), ("write a 1 a\nb", "no words"), ("write a 0 \t", "no words"),
+                            ("write a 1 a\tb", "no words"), ("write a 1 a\nb", "no words"),
+                            ("write a 0 \t", "no words"),
                             ("write a 4 \n", "no words"))
 
     def test_part(self):
         self.assertEqual(self.lines_behind("part a 3 2"), ["one", "two", "th", "ree"])
         self.assertEqual(self.lines_behind("part a 1 0"), ["", "one", "two", "three"])
         self.assertEqual(self.lines_behind("part a 1 3"), ["one", "", "two", "three"])
-        self.assert_answers(desk_with(*THREE), ("part a 0 1", "no line"), ("part a 4 1", "no line"), ("part a 1 4", "no cut"),
+        self.assert_answers(desk_with(*THREE), ("part a 0 1", "no line"), ("part a 4 1", "no line"),
+                            ("part a 1 4", "no cut"),
                             ("part a 1 9999", "no cut"), ("part a 4 9999", "no line"), ("part a 0 0", "no line"))
 
     def test_join(self):
         self.assertEqual(self.lines_behind("join a 1"), ["onetwo", "three"])
         self.assertEqual(self.lines_behind("join a 2", "join a 1"), ["onetwothree"])
-        self.assert_answers(desk_with(*THREE), ("join a 0", "no line"), ("join a 3", "no line"), ("join a 4", "no line"))
+        self.assert_answers(desk_with(*THREE), ("join a 0", "no line"), ("join a 3", "no line"),
+                            ("join a 4", "no line"))
 
     def test_carry(self):
         self.assertEqual(self.lines_behind("carry a 1 2 3"), ["three", "one", "two"])
@@ -155,22 +158,31 @@ class DeedTest(DeskCase):
                             ("put a 1 x", "no line"), ("join a 1", "no line"), ("show a", "0"), ("unsaved a", "0"),
                             ("put a 0 x", "ok"), ("show a", "1\nx"), ("unsaved a", "1"))
 
+    def test_a_line_that_is_none_is_no_piece_that_was_kept_by_both(self):
+        desk = clashing()
+        self.assert_answers(desk, ("save b", "save 3 clash 1 clash 2"), ("settle 1 both", "save 4"), ("reload a", "ok"),
+                            ("show a", "4\nof b\nof a\ntwo a\nsame"), ("take a 0", "no line"), ("take a 5", "no line"),
+                            ("put a 5 x", "no line"), ("move a 1 5", "no line"), ("carry a 1 1 5", "no line"))
+
     def test_lines_of_four_figures(self):
         desk = desk_with("open a", *["put a 0 x" for turn in range(1001)])
-        self.assert_answers(desk, ("write a 1001 last", "ok"), ("write a 1002 no", "no line"), ("move a 1001 1000", "ok"),
+        self.assert_answers(desk, ("write a 1001 last", "ok"), ("write a 1002 no", "no line"),
+                            ("move a 1001 1000", "ok"),
                             ("take a 1000", "ok"), ("put a 1000 new", "ok"), ("put a 1002 no", "no line"))
         self.assertEqual(desk.say("show a").split("\n")[-3:], ["x", "last", "new"])
 
     def test_words_of_many_signs(self):
         desk = desk_with("open a", "put a 0 " + "w" * 9999)
-        self.assert_answers(desk, ("part a 1 9999", "ok"), ("show a", "2\n" + "w" * 9999 + "\n"), ("part a 2 1", "no cut"))
+        self.assert_answers(desk, ("part a 1 9999", "ok"), ("show a", "2\n" + "w" * 9999 + "\n"),
+                            ("part a 2 1", "no cut"))
 
 
 class UndoTest(DeskCase):
 
     def test_undo(self):
         self.assert_answers(desk_with(*THREE), ("again a", "no deed"), ("undo a", "ok"), ("show a", "2\none\ntwo"),
-                            ("undo a", "ok"), ("undo a", "ok"), ("undo a", "no deed"), ("show a", "0"), ("again a", "ok"),
+                            ("undo a", "ok"), ("undo a", "ok"), ("undo a", "no deed"), ("show a", "0"),
+                            ("again a", "ok"),
                             ("show a", "1\none"), ("put a 0 x", "ok"), ("again a", "no deed"))
 
     def test_behind_a_save(self):
@@ -193,23 +205,29 @@ class SaveTest(DeskCase):
 
     def test_save(self):
         self.assert_answers(Desk(), ("open a", "ok"), ("save a", "save 1"), ("put a 0 x", "ok"), ("save a", "save 2"),
-                            ("save a", "save 3"), ("read 0", "0"), ("read 1", "0"), ("read 2", "1\nx"), ("read 3", "1\nx"),
+                            ("save a", "save 3"), ("read 0", "0"), ("read 1", "0"), ("read 2", "1\nx"),
+                            ("read 3", "1\nx"),
                             ("read 4", "no save"), ("read 9999", "no save"))
 
     def test_clashes(self):
         desk = clashing()
-        self.assert_answers(desk, ("clashes", "0"), ("save b", "save 3 clash 1 clash 2"), ("show b", "3\nof b\ntwo a\nsame"),
-                            ("clashes", "2\n1 in of b\n1 in of a\n2 in two a\n2 out"), ("read 3", "3\nof b\ntwo a\nsame"))
+        self.assert_answers(desk, ("clashes", "0"), ("save b", "save 3 clash 1 clash 2"),
+                            ("show b", "3\nof b\ntwo a\nsame"),
+                            ("clashes", "2\n1 in of b\n1 in of a\n2 in two a\n2 out"),
+                            ("read 3", "3\nof b\ntwo a\nsame"))
 
     def test_clashes_of_words_that_are_none_or_have_blanks(self):
         desk = desk_with("open a", "put a 0 x", "put a 1 y", "save a", "open b", "write a 1 ", "write b 1  w ",
                          "take b 2", "write a 2  out", "save a")
-        self.assert_answers(desk, ("save b", "save 3 clash 1 clash 2"), ("clashes", "2\n1 in  w \n1 in \n2 in  out\n2 out"))
+        self.assert_answers(desk, ("save b", "save 3 clash 1 clash 2"),
+                            ("clashes", "2\n1 in  w \n1 in \n2 in  out\n2 out"))
 
     def test_reload(self):
         desk = clashing()
-        self.assert_answers(desk, ("reload b", "crossed 3"), ("undo b", "ok"), ("reload b", "crossed 2"), ("undo b", "ok"),
-                            ("undo b", "ok"), ("reload b", "ok"), ("show b", "3\nof a\ntwo a\nsame"), ("reload a", "ok"),
+        self.assert_answers(desk, ("reload b", "crossed 3"), ("undo b", "ok"), ("reload b", "crossed 2"),
+                            ("undo b", "ok"),
+                            ("undo b", "ok"), ("reload b", "ok"), ("show b", "3\nof a\ntwo a\nsame"),
+                            ("reload a", "ok"),
                             ("again b", "no deed"))
 
     def test_show_and_read_are_not_the_same(self):
@@ -280,14 +298,16 @@ class NoRowTest(DeskCase):
         for number, answer in (("0", "no line"), ("4", "no line"), ("10", "no line"), ("100", "no line"),
                                ("1000", "no line"), ("9999", "no line")):
             self.assert_answers(desk, (f"take a {number}", answer))
-        for number in ("", "00", "01", "0001", "10000", "99999", "1.0", "1,0", "+1", "-0", "-1", "1e1", "a", "1\n", "\t1", "1_0"):
+        for number in ("", "00", "01", "0001", "10000", "99999", "1.0", "1,0", "+1", "-0", "-1", "1e1", "a", "1\n",
+                       "\t1", "1_0"):
             self.assert_refused("NoRow", desk.say, f"take a {number}")
 
 
 class CutTest(DeskCase):
 
     def test_at_first(self):
-        self.assert_answers(Desk(), ("cut", "ok"), ("open a", "ok"), ("cut", "ok"), ("cut", "ok"), ("show a", "no window"),
+        self.assert_answers(Desk(), ("cut", "ok"), ("open a", "ok"), ("cut", "ok"), ("cut", "ok"),
+                            ("show a", "no window"),
                             ("open a", "ok"), ("show a", "0"))
 
     def test_windows_are_closed_and_as_they_were(self):
@@ -338,7 +358,8 @@ def random_row(chance):
         f"put {name} 1 {words}", f"take {name} {line()}", f"move {name} {line()} {line()}",
         f"write {name} {line()} {words}", f"write {name} 1 {words}", f"part {name} {line()} {line()}",
         f"join {name} {line()}", f"carry {name} {line()} {line()} {line()}", f"undo {name}", f"again {name}",
-        f"reload {name}", f"save {name}", f"save {name}", f"show {name}", f"read {line()}", f"unsaved {name}", "clashes",
+        f"reload {name}", f"save {name}", f"save {name}", f"show {name}", f"read {line()}", f"unsaved {name}",
+        "clashes",
         f"settle {line()} {chance.choice(('stay', 'turn', 'both', 'x'))}", f"back {line()}"))
 
 

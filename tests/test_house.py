@@ -4,7 +4,7 @@ import copy
 import random
 import unittest
 
-from helper import CHOICES, RefusalCase, act, draft_of, house_told, random_act, sheet_of, window_told
+from helper import CHOICES, RefusalCase, act, by_chance, draft_of, house_told, random_act, sheet_of, window_told
 from twotabs.changes import changes
 from twotabs.house import House
 from twotabs.merges import merged
@@ -547,9 +547,7 @@ class RecordsTest(RefusalCase):
     def test_in_their_order_by_chance(self):
         # What is written down tells each save's sheet and clashes, reckoned here by themselves.
         for seed in range(40):
-            chance, house = random.Random(seed), House()
-            for turn in range(80):
-                act(house, random_act(chance, house, ("a", "b", "c")))
+            house = by_chance(seed, 80, ("a", "b", "c"))
             sheet, told = Sheet([]), []
             for save, (head, pieces, asides) in enumerate(house.records(), 1):
                 new = sheet.given(pieces)

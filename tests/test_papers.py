@@ -3,7 +3,7 @@
 import random
 import unittest
 
-from helper import RefusalCase, act, house_told, random_act
+from helper import RefusalCase, by_chance, closed, house_told
 from twotabs.built import built
 from twotabs.house import House
 from twotabs.papers import house_of, papers
@@ -45,21 +45,6 @@ def example():
     return house
 
 
-def by_chance(seed, turns):
-    chance, house = random.Random(seed), House()
-    for turn in range(turns):
-        act(house, random_act(chance, house, NAMES))
-    return house
-
-
-def closed(house):
-    """The house with all its windows closed."""
-    for name, number, is_open in house.windows():
-        if is_open:
-            house.closes(name)
-    return house
-
-
 class WrittenTest(RefusalCase):
 
     def test_a_new_house(self):
@@ -97,7 +82,7 @@ class ReadTest(RefusalCase):
 
     def test_written_read_and_written_again(self):
         for seed in range(60):
-            house = by_chance(seed, 100)
+            house = by_chance(seed, 100, NAMES)
             book, slips = papers(house)
             anew = house_of(book, slips)
             self.assertEqual(papers(anew), (book, slips))
@@ -105,7 +90,7 @@ class ReadTest(RefusalCase):
 
     def test_slips_in_any_order(self):
         for seed in range(20):
-            book, slips = papers(by_chance(seed, 60))
+            book, slips = papers(by_chance(seed, 60, NAMES))
             shuffled = list(slips)
             random.Random(seed).shuffle(shuffled)
             self.assertEqual(papers(house_of(book, shuffled)), (book, slips))
@@ -146,7 +131,7 @@ class CutTest(RefusalCase):
 
     def test_books_by_chance_at_every_sign(self):
         for seed in range(8):
-            house = by_chance(seed, 60)
+            house = by_chance(seed, 60, NAMES)
             book, slips = papers(house)
             for at in range(len(book) + 1):
                 whole = book[:at].count("\nend\n")
@@ -162,7 +147,8 @@ class CutTest(RefusalCase):
 
     def test_what_stands_behind_the_last_end_is_left_out(self):
         for rest in ("x", "\n", "\n\n", "no row\n", "end", "en", "save", "save 12 1 3\n", "save 12 1 3\npiece 1.1 4",
-                     "piece 1.1 4 -\nno row\n", " end\n", "end \n", "ending\n", "save 1 1 1\nsave 1 1 1\nend", "\tend\n",
+                     "piece 1.1 4 -\nno row\n", " end\n", "end \n", "ending\n", "save 1 1 1\nsave 1 1 1\nend",
+                     "\tend\n",
                      "undo 5\nx end\n"):
             house = house_of(BOOK + rest, SLIPS)
             self.assertEqual(papers(house), (BOOK, SLIPS))
@@ -213,7 +199,8 @@ class NoPaperTest(RefusalCase):
             ("settle 4 1 stay\nend\n", []), ("save 4 1 2\nclash 1.1 3 -\nend\n", []),
             ("", [("A", "begin 1 1 0\n")]), ("", [("a", "begin 1 1 1\n")]), ("", [("a", "undo 1\n")]),
             ("", [("a", "begin 1 1 0\nundo 2\n")]), ("", [("a", "begin 1 1 0\n"), ("a", "begin 2 2 0\n")]),
-            ("", [("a", "begin 1 1 0\n"), ("b", "begin 2 1 0\n")]), ("", [("a", "begin 1 1 0\n"), ("b", "begin 1 2 0\n")]),
+            ("", [("a", "begin 1 1 0\n"), ("b", "begin 2 1 0\n")]),
+            ("", [("a", "begin 1 1 0\n"), ("b", "begin 1 2 0\n")]),
             ("", [("a", "begin 1 1 0\ntake 2 1.1\n")]), ("", [("a", "begin 2 1 0\nput 2 - x\n")]),
             ("save 4 1 2\nend\n", [("a", "begin 5 1 0\n")]), ("save 4 1 2\nend\n", [("a", "begin 3 1 1\n")]),
         ):

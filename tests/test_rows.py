@@ -93,7 +93,8 @@ NO_BOOK = (
     [HEAD, "", "end"], [HEAD, PIECE, "end "], [HEAD, PIECE, " end"], [HEAD, PIECE, "End"], [HEAD, PIECE, "end\n"],
     [HEAD, PIECE, "ends"], [HEAD, PIECE, "end 1"], [HEAD, "end 1", "end"], [HEAD, PIECE, ""],
     *[[head, "end"] for head in (
-        "save 0 2 3", "save 9 0 3", "save 9 2 -1", "save 9 2", "save 9 2 3 4", "save 9 2 ", "save 9  2 3", "save 9 2 3 ",
+        "save 0 2 3", "save 9 0 3", "save 9 2 -1", "save 9 2", "save 9 2 3 4", "save 9 2 ", "save 9  2 3",
+        "save 9 2 3 ",
         " save 9 2 3", "save 09 2 3", "save x 2 3", "save", "Save 9 2 3", "save 9 2 3\n", "save 9 1.1 3",
         f"save 9 2 {GREAT + 1}", "back 9", "back 9 -1", "back 0 1", "back 9 1 1", "back 9 1 ", "back 9 -", "back",
         "settle 9 1", "settle 9 0 stay", "settle 0 1 stay", "settle 9 -1 stay", "settle 9 1 ", "settle 9 1 none",
@@ -102,7 +103,8 @@ NO_BOOK = (
         "piece", "piece 1.1", "piece 1.1 ", "piece 1.1 4", "piece 1.1 4 ", "piece 1.1 0 -", "piece 1.1 4 - ",
         "piece 1.1 4 - x", "piece 1.0 4 -", "piece - 4 -", "piece 1.1 4 0.1.1", "piece 1.1 4 0.1 x", "piece  1.1 4 -",
         "piece 1.1  4 -", "piece 1.1 4  -", "piece 1.1 4 0.1.1/ x", "piece 1.1 4 0.1.1 a\tb", "piece 1.1 4 0.1.1 a\nb",
-        "Piece 1.1 4 -", "pieces 1.1 4 -", "piece 1.1 -", "piece 1 4 -", "piece 1.1 -4 0.1.1 x", "piece 1.1 4 0.-1.1 x")],
+        "Piece 1.1 4 -", "pieces 1.1 4 -", "piece 1.1 -", "piece 1 4 -", "piece 1.1 -4 0.1.1 x",
+        "piece 1.1 4 0.-1.1 x")],
     *[[HEAD, row, "end"] for row in ("clash", "clash 1.1", "clash 1.1 0 -", "clash 1.1 4", "clash 1.1 4 - ",
                                      "clash - 4 -", "clash 1.1 4 0.1.1", "clash 1.1 4 0.1.1 \t", "clash 1 stay")],
 )
@@ -259,7 +261,8 @@ class BookTest(RefusalCase):
                      ("settle", far, 1, "stay"), ("settle", 1, far, "stay")):
             self.assert_refused("NoText", book_rows, (head, [], []))
         for pair in (((1, far), (1, P, "x")), ((far, 1), (1, P, "x")), ((1, 1), (far, P, "x")),
-                     ((1, 1), (far, (), "")), ((1, 1), (1, ((far, 1, 1),), "")), ((1, 1), (1, ((1, 1, 10 ** 6000),), ""))):
+                     ((1, 1), (far, (), "")), ((1, 1), (1, ((far, 1, 1),), "")),
+                     ((1, 1), (1, ((1, 1, 10 ** 6000),), ""))):
             self.assert_refused("NoText", book_rows, (("save", 1, 1, 0), [pair], []))
             self.assert_refused("NoText", book_rows, (("save", 1, 1, 0), [], [pair]))
 

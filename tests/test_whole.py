@@ -9,7 +9,8 @@ import random
 import unittest
 
 from helper import (
-    RefusalCase, act, book_told, draft_of, house_told, names_open, perhaps_read_back, random_act, random_deed, read_back,
+    RefusalCase, act, book_told, closed, draft_of, house_told, names_open, perhaps_read_back, random_act, random_deed,
+    read_back,
     window_told,
 )
 from twotabs.house import House
@@ -432,14 +433,6 @@ class TogetherTest(RefusalCase):
             house.save(name)
         words = [words for mark, words in house.read(house.newest())]
         self.assertEqual(words, ["head"] + [f"{name} {turn}" for name in NAMES for turn in range(5)])
-
-
-def closed(house):
-    """The house once more, with all its windows closed."""
-    house = copy.deepcopy(house)
-    for name in names_open(house):
-        house.closes(name)
-    return house
 
 
 def window_whole(house, name):

@@ -209,7 +209,8 @@ class UndoTest(RefusalCase):
             self.assertEqual(one.counted(), count)
 
 
-LATER = [(A, (1, PA, "one")), (B, (9, PB, "TWO")), (C, (10, (), "")), (D, (11, PC, "back")), ((3, 1), (8, PB + PA, "n"))]
+LATER = [(A, (1, PA, "one")), (B, (9, PB, "TWO")), (C, (10, (), "")), (D, (11, PC, "back")),
+         ((3, 1), (8, PB + PA, "n"))]
 
 
 class RebaseTest(RefusalCase):
